@@ -2,55 +2,25 @@ package cell
 
 import (
 	"math"
-	"strings"
 	"testing"
 
 	"lapidary/api"
+	"lapidary/samples"
 )
 
-func number(n int64) api.Value { return api.Value{Kind: api.Int, I: n} }
-
-func text(s string) api.Value { return api.Value{Kind: api.Text, S: s} }
-
-func truthOf(b bool) api.Value { return api.Value{Kind: api.Bool, B: b} }
-
-var null = api.Value{}
-
-// ascending lists valid values, each of them less than those behind it.
-func ascending() []api.Value {
-	return []api.Value{
-		null,
-		truthOf(false), truthOf(true),
-		number(math.MinInt64), number(math.MinInt64 + 1), number(-256), number(-1), number(0), number(1), number(2), number(255), number(1 << 32), number(math.MaxInt64),
-		text(""), text("\x01"), text(" "), text("'"), text("-1"), text("0"), text("10"), text("2"), text("A"), text("Z"), text("a"), text("a\x01"), text("aa"), text("b"),
-		text("\u00e9"), text("\uffff"), text("\U00010000"), text(strings.Repeat("\U0010ffff", 15)),
-	}
-}
-
-// invalid lists values that are not.
-func invalid() []api.Value {
-	return []api.Value{
-		{Kind: 4}, {Kind: 255}, {Kind: 4, I: 1}, {Kind: 200, S: "a"}, {Kind: 9, B: true},
-		{I: 1}, {S: "a"}, {B: true},
-		{Kind: api.Int, S: "a"}, {Kind: api.Int, I: 1, B: true}, {Kind: api.Int, I: -1, S: "\x00"},
-		{Kind: api.Text, I: 1}, {Kind: api.Text, S: "a", B: true},
-		{Kind: api.Bool, I: 1}, {Kind: api.Bool, B: true, S: "a"}, {Kind: api.Bool, B: true, I: -1},
-		text(strings.Repeat("a", 61)), text(strings.Repeat("\u00e9", 31)), text(strings.Repeat("a", 100000)),
-		text("\x00"), text("a\x00"), text("\x00a"), text("a\x00b"),
-		text("\xff"), text("a\xc3"), text("\x80"), text("\xed\xa0\x80"), text("\xc0\x80"), text("\xf4\x90\x80\x80"),
-	}
-}
+var (
+	null                  = api.Value{}
+	number, text, truthOf = samples.Number, samples.Text, samples.Truth
+)
 
 // P2.1: what is valid.
 func TestRight(t *testing.T) {
-	right := append(ascending(),
-		text(strings.Repeat("a", 60)), text(strings.Repeat("\u00e9", 30)), text("it's"), text("\ufffd"), text("\n\t\x7f"))
-	for _, v := range right {
+	for _, v := range samples.Ascending() {
 		if !Right(v) {
 			t.Errorf("Right(%+v) = false", v)
 		}
 	}
-	for _, v := range invalid() {
+	for _, v := range samples.Invalid() {
 		if Right(v) {
 			t.Errorf("Right(%+v) = true", v)
 		}
@@ -59,8 +29,8 @@ func TestRight(t *testing.T) {
 
 // P2.1: the order of all values.
 func TestOrder(t *testing.T) {
-	for i, v := range ascending() {
-		for k, w := range ascending() {
+	for i, v := range samples.Ascending() {
+		for k, w := range samples.Ascending() {
 			if Less(v, w) != (i < k) {
 				t.Errorf("Less(%+v, %+v) = %v", v, w, i >= k)
 			}
@@ -73,8 +43,8 @@ func TestOrder(t *testing.T) {
 
 // P2.1: Compare of values of one kind, of Null, and of two kinds.
 func TestCompare(t *testing.T) {
-	for i, v := range ascending() {
-		for k, w := range ascending() {
+	for i, v := range samples.Ascending() {
+		for k, w := range samples.Ascending() {
 			want, known, code := 0, false, api.OK
 			switch {
 			case v.Kind == api.Null || w.Kind == api.Null:
@@ -161,14 +131,14 @@ func TestNot(t *testing.T) {
 
 // P2.2: what is no truth is an error, also beside a truth that would decide alone.
 func TestLogicOfWrongKinds(t *testing.T) {
-	for _, v := range ascending() {
+	for _, v := range samples.Ascending() {
 		if v.Kind == api.Null || v.Kind == api.Bool {
 			continue
 		}
 		if r, e := Not(v); r != null || e != api.ErrType {
 			t.Errorf("Not(%+v) = %+v, %d", v, r, e)
 		}
-		for _, w := range ascending() {
+		for _, w := range samples.Ascending() {
 			for _, f := range []func(a, b api.Value) (api.Value, api.Errno){And, Or} {
 				if r, e := f(v, w); r != null || e != api.ErrType {
 					t.Errorf("of %+v, %+v: %+v, %d", v, w, r, e)
@@ -212,7 +182,7 @@ func TestLiteral(t *testing.T) {
 
 // P1: whatever the values are, each call ends and does not panic. P2: and it answers the same again.
 func TestAllCallsOfAllValuesEnd(t *testing.T) {
-	all := append(ascending(), invalid()...)
+	all := append(samples.Ascending(), samples.Invalid()...)
 	for _, v := range all {
 		if Right(v) != Right(v) || Literal(v) != Literal(v) {
 			t.Errorf("another answer for %+v", v)

@@ -1,0 +1,46 @@
+// Package samples makes values that the tests of several layers try.
+package samples
+
+import (
+	"math"
+	"strings"
+
+	"lapidary/api"
+)
+
+// Number is the value n.
+func Number(n int64) api.Value { return api.Value{Kind: api.Int, I: n} }
+
+// Text is the value s.
+func Text(s string) api.Value { return api.Value{Kind: api.Text, S: s} }
+
+// Truth is the value b.
+func Truth(b bool) api.Value { return api.Value{Kind: api.Bool, B: b} }
+
+// Ascending lists valid values, each of them less than those behind it.
+func Ascending() []api.Value {
+	long := strings.Repeat("a", api.MaxText-1)
+	return []api.Value{
+		{},
+		Truth(false), Truth(true),
+		Number(math.MinInt64), Number(math.MinInt64 + 1), Number(-1 << 32), Number(-257), Number(-256), Number(-255), Number(-2), Number(-1),
+		Number(0), Number(1), Number(2), Number(255), Number(256), Number(1 << 32), Number(math.MaxInt64 - 1), Number(math.MaxInt64),
+		Text(""), Text("\x01"), Text("\x02"), Text("\x03\x7f"), Text("\x04"), Text("\n\t\x7f"), Text(" "), Text("'"), Text("-1"), Text("0"), Text("10"), Text("2"), Text("A"), Text("Z"),
+		Text("a"), Text("a\x01"), Text("aa"), Text(long), Text(long + "\x01"), Text(long + "a"), Text("ab"), Text("b"), Text("it's"),
+		Text("\u00e9"), Text(strings.Repeat("\u00e9", api.MaxText/2)), Text("\ufffd"), Text("\uffff"), Text("\U00010000"), Text("\U0010ffff"), Text(strings.Repeat("\U0010ffff", api.MaxText/4)),
+	}
+}
+
+// Invalid lists values that are not valid.
+func Invalid() []api.Value {
+	return []api.Value{
+		{Kind: 4}, {Kind: 9}, {Kind: 255}, {Kind: 4, I: 1}, {Kind: 200, S: "a"}, {Kind: 9, B: true},
+		{I: 1}, {S: "a"}, {B: true},
+		{Kind: api.Int, S: "a"}, {Kind: api.Int, I: 1, B: true}, {Kind: api.Int, I: -1, S: "\x00"},
+		{Kind: api.Text, I: 1}, {Kind: api.Text, S: "a", B: true},
+		{Kind: api.Bool, I: 1}, {Kind: api.Bool, B: true, S: "a"}, {Kind: api.Bool, B: true, I: -1},
+		Text(strings.Repeat("a", api.MaxText+1)), Text(strings.Repeat("\u00e9", api.MaxText/2+1)), Text(strings.Repeat("a", 256)), Text(strings.Repeat("a", 257)), Text(strings.Repeat("a", 100000)),
+		Text("\x00"), Text("a\x00"), Text("\x00a"), Text("a\x00b"),
+		Text("\xff"), Text("a\xc3"), Text("\x80"), Text("\xed\xa0\x80"), Text("\xc0\x80"), Text("\xf4\x90\x80\x80"),
+	}
+}
