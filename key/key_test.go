@@ -279,7 +279,7 @@ func TestArgumentsStay(t *testing.T) {
 	if string(q) != "\x04abc\x00\x01\x02\x01" || e != api.OK {
 		t.Error("Read changed its argument")
 	}
-	fill(q)
+	samples.Fill(q)
 	if !slices.Equal(l, []api.Value{text("abc"), null}) {
 		t.Errorf("Read kept its argument: %+v", l)
 	}
@@ -291,18 +291,10 @@ func TestArgumentsStay(t *testing.T) {
 			t.Errorf("Behind(%x) changed its argument", s)
 		}
 		want := string(q)
-		fill(p)
+		samples.Fill(p)
 		if string(q) != want {
 			t.Errorf("Behind(%x) kept its argument", s)
 		}
-	}
-}
-
-// fill overwrites p, and the memory behind it.
-func fill(p []byte) {
-	p = p[:cap(p)]
-	for i := range p {
-		p[i] = 0xee
 	}
 }
 
@@ -311,7 +303,7 @@ func TestResultsAreNew(t *testing.T) {
 	row := []api.Value{truth(true), number(-3), text("abc"), null}
 	const want = "\x02\x01\x03\x7f\xff\xff\xff\xff\xff\xff\xfd\x04abc\x00\x01"
 	p, q := encoded(t, row...), encoded(t, row...)
-	fill(p)
+	samples.Fill(p)
 	if string(q) != want || string(encoded(t, row...)) != want {
 		t.Error("Bytes shares memory")
 	}
@@ -328,7 +320,7 @@ func TestResultsAreNew(t *testing.T) {
 		arg := []byte(s)
 		p, q := Behind(arg), Behind(arg)
 		same := string(q)
-		fill(p)
+		samples.Fill(p)
 		if string(q) != same || string(Behind(arg)) != same || string(arg) != s {
 			t.Errorf("Behind(%x) shares memory", s)
 		}

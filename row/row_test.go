@@ -348,7 +348,7 @@ func TestResultsAreNew(t *testing.T) {
 	for _, c := range written() {
 		p, _ := Bytes(c.kinds, c.l)
 		q, _ := Bytes(c.kinds, c.l)
-		fill(p)
+		samples.Fill(p)
 		again, _ := Bytes(c.kinds, c.l)
 		if string(q) != c.p || string(again) != c.p {
 			t.Errorf("Bytes(%v, %+v) shares memory", c.kinds, c.l)
@@ -363,14 +363,6 @@ func TestResultsAreNew(t *testing.T) {
 		if !slices.Equal(m, c.l) || !slices.Equal(n, c.l) || string(arg) != c.p {
 			t.Errorf("Read(%v, %x) shares memory", c.kinds, c.p)
 		}
-	}
-}
-
-// fill overwrites p, and the memory behind it.
-func fill(p []byte) {
-	p = p[:cap(p)]
-	for i := range p {
-		p[i] = 0xee
 	}
 }
 

@@ -1,4 +1,4 @@
-// Package samples makes values that the tests of several layers try.
+// Package samples makes values and versions that the tests of several layers try.
 package samples
 
 import (
@@ -43,4 +43,55 @@ func Invalid() []api.Value {
 		Text("\x00"), Text("a\x00"), Text("\x00a"), Text("a\x00b"),
 		Text("\xff"), Text("a\xc3"), Text("\x80"), Text("\xed\xa0\x80"), Text("\xc0\x80"), Text("\xf4\x90\x80\x80"),
 	}
+}
+
+// Fill overwrites p, and the memory behind it.
+func Fill(p []byte) {
+	p = p[:cap(p)]
+	for i := range p {
+		p[i] = 0xee
+	}
+}
+
+// Nowhere is the Next of a version that has none.
+func Nowhere() api.TID { return api.TID{Page: -1, Slot: -1} }
+
+// Version is one that has no Next.
+func Version(row uint64, data string) api.Tuple {
+	return api.Tuple{Row: row, Xmin: 3, Next: Nowhere(), Data: []byte(data)}
+}
+
+// Nexts lists what may be the Next of a version.
+func Nexts() []api.TID {
+	return []api.TID{
+		Nowhere(),
+		{Page: 0, Slot: 0}, {Page: 0, Slot: 1}, {Page: 1, Slot: 0}, {Page: 4, Slot: 5},
+		{Page: 254, Slot: 254}, {Page: 255, Slot: 255}, {Page: 256, Slot: 256},
+		{Page: 65535, Slot: 0}, {Page: 0, Slot: 65534}, {Page: 65534, Slot: 65533}, {Page: 65535, Slot: 65534},
+	}
+}
+
+// InvalidNexts lists what may not.
+func InvalidNexts() []api.TID {
+	return []api.TID{
+		{Page: -1, Slot: 0}, {Page: 0, Slot: -1}, {Page: -1, Slot: 65534}, {Page: 65535, Slot: -1}, {Page: -1, Slot: -2}, {Page: -2, Slot: -1}, {Page: -2, Slot: -2},
+		{Page: 65536, Slot: 0}, {Page: 0, Slot: 65535}, {Page: 65536, Slot: 65535}, {Page: -1, Slot: 65535}, {Page: 65536, Slot: -1}, {Page: 65535, Slot: 65535}, {Page: 65536, Slot: 65534},
+		{Page: 1<<32 - 1, Slot: 1<<16 - 1}, {Page: 1<<32 - 1, Slot: -1}, {Page: 1 << 32, Slot: 1 << 16}, {Page: 1 << 32, Slot: 0},
+		{Page: math.MaxInt, Slot: math.MaxInt}, {Page: math.MinInt, Slot: math.MinInt}, {Page: 0, Slot: math.MinInt}, {Page: math.MinInt, Slot: 0}, {Page: math.MaxInt, Slot: -1},
+	}
+}
+
+// InvalidVersions lists versions that are not valid.
+func InvalidVersions() []api.Tuple {
+	var l []api.Tuple
+	for _, n := range []uint64{api.MaxXid + 1, api.MaxXid * 2, 1 << 63, math.MaxUint64} {
+		l = append(l, api.Tuple{Row: n, Next: Nowhere()}, api.Tuple{Xmin: n, Next: Nowhere()}, api.Tuple{Xmax: n, Next: Nowhere()})
+	}
+	for _, next := range InvalidNexts() {
+		l = append(l, api.Tuple{Row: 1, Xmin: 1, Next: next})
+	}
+	for _, n := range []int{api.MaxRow + 1, api.MaxRow + 2, 256, 474, 475, 1000, 100000} {
+		l = append(l, Version(1, strings.Repeat("a", n)))
+	}
+	return l
 }
