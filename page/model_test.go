@@ -3,7 +3,6 @@ package page
 import (
 	"bytes"
 	"encoding/binary"
-	"reflect"
 	"slices"
 	"testing"
 
@@ -168,7 +167,7 @@ func (m *model) check(t *testing.T, p *Page) {
 	}
 	for slot := -1; slot <= len(m.slots)+1; slot++ {
 		got, ok := p.Get(slot)
-		if want, has := m.get(slot); ok != has || !same(got, want) {
+		if want, has := m.get(slot); ok != has || !samples.Same(got, want) {
 			t.Fatalf("Get(%d) = %+v, %v, want %+v, %v", slot, got, ok, want, has)
 		}
 	}
@@ -180,13 +179,6 @@ func (m *model) get(slot int) (api.Tuple, bool) {
 		return api.Tuple{}, false
 	}
 	return m.slots[slot].t, true
-}
-
-// same compares versions.
-func same(a, b api.Tuple) bool {
-	equal := bytes.Equal(a.Data, b.Data)
-	a.Data, b.Data = nil, nil
-	return equal && reflect.DeepEqual(a, b)
 }
 
 // tryInsert inserts into both.
@@ -247,16 +239,7 @@ func pageWith(t *testing.T, sizes ...int) (*Page, *model) {
 	p, m := New(), &model{begin: 512}
 	m.check(t, p)
 	for i, n := range sizes {
-		m.tryInsert(t, p, sized(i, n))
+		m.tryInsert(t, p, samples.Sized(i, n))
 	}
 	return p, m
-}
-
-// sized is a version whose Data have n bytes.
-func sized(row, n int) api.Tuple {
-	data := bytes.Repeat([]byte{byte(0x81 + row)}, n)
-	for i := range data {
-		data[i] += byte(i % 5)
-	}
-	return samples.Version(uint64(row)+1, string(data))
 }

@@ -96,7 +96,7 @@ func TestSlots(t *testing.T) {
 	m.tryFree(t, p, 3)
 	m.tryFree(t, p, 1)
 	m.tryFree(t, p, 1)
-	for _, v := range []api.Tuple{sized(11, 1), sized(12, 2), sized(13, 3)} {
+	for _, v := range []api.Tuple{samples.Sized(11, 1), samples.Sized(12, 2), samples.Sized(13, 3)} {
 		m.tryInsert(t, p, v)
 	}
 	if m.slots[1].t.Row != 12 || m.slots[3].t.Row != 13 || m.slots[6].t.Row != 14 {
@@ -108,25 +108,25 @@ func TestSlots(t *testing.T) {
 	if p.Slots() != 0 || m.begin == 512 {
 		t.Fatal(p.Slots(), m.begin)
 	}
-	m.tryInsert(t, p, sized(20, 7))
+	m.tryInsert(t, p, samples.Sized(20, 7))
 }
 
 // P5.1: Data have 0 to 200 bytes, and the first three of the greatest do not fit.
 func TestSizesOfData(t *testing.T) {
 	for n := range api.MaxRow + 1 {
 		p, m := pageWith(t, n)
-		m.tryInsert(t, p, sized(1, api.MaxRow-n))
+		m.tryInsert(t, p, samples.Sized(1, api.MaxRow-n))
 		m.loaded(t)
 	}
 	p, m := pageWith(t, 200, 200)
-	if m.tryInsert(t, p, sized(2, 200)); p.Slots() != 2 || p.Room() != 6 {
+	if m.tryInsert(t, p, samples.Sized(2, 200)); p.Slots() != 2 || p.Room() != 6 {
 		t.Fatal(p.Slots(), p.Room())
 	}
-	m.tryInsert(t, p, sized(2, 7))
-	if m.tryInsert(t, p, sized(2, 6)); p.Slots() != 3 || p.Room() != -1 {
+	m.tryInsert(t, p, samples.Sized(2, 7))
+	if m.tryInsert(t, p, samples.Sized(2, 6)); p.Slots() != 3 || p.Room() != -1 {
 		t.Fatal(p.Slots(), p.Room())
 	}
-	m.tryInsert(t, p, sized(3, 0))
+	m.tryInsert(t, p, samples.Sized(3, 0))
 }
 
 // P5.1: a page is full with versions without Data; and Room is 0 where just such a one fits.
@@ -135,25 +135,25 @@ func TestFullOfEmpty(t *testing.T) {
 	if p.Room() != -1 {
 		t.Fatal(p.Room())
 	}
-	m.tryInsert(t, p, sized(1, 0))
+	m.tryInsert(t, p, samples.Sized(1, 0))
 	m.tryFree(t, p, 5)
 	if p.Room() != 32 {
 		t.Fatal(p.Room())
 	}
-	m.tryInsert(t, p, sized(1, 33))
-	m.tryInsert(t, p, sized(1, 32))
+	m.tryInsert(t, p, samples.Sized(1, 33))
+	m.tryInsert(t, p, samples.Sized(1, 32))
 	for _, c := range []struct{ third, room int }{{171, 1}, {172, 0}, {173, -1}, {180, -1}} {
 		p, m := pageWith(t, 200, 0, c.third)
 		if p.Room() != c.room {
 			t.Fatal(c, p.Room())
 		}
-		m.tryInsert(t, p, sized(3, c.room+1))
-		if m.tryInsert(t, p, sized(3, 0)); p.Slots() != 3+min(1, c.room+1) {
+		m.tryInsert(t, p, samples.Sized(3, c.room+1))
+		if m.tryInsert(t, p, samples.Sized(3, 0)); p.Slots() != 3+min(1, c.room+1) {
 			t.Fatal(c, p.Slots())
 		}
 		m.tryFree(t, p, 1)
-		m.tryInsert(t, p, sized(4, m.room()+1))
-		m.tryInsert(t, p, sized(5, m.room()))
+		m.tryInsert(t, p, samples.Sized(4, m.room()+1))
+		m.tryInsert(t, p, samples.Sized(5, m.room()))
 	}
 }
 
@@ -169,9 +169,9 @@ func TestHoles(t *testing.T) {
 		}
 		room := m.room()
 		if room < api.MaxRow {
-			m.tryInsert(t, p, sized(9, room+1))
+			m.tryInsert(t, p, samples.Sized(9, room+1))
 		}
-		m.tryInsert(t, p, sized(9, max(min(room, api.MaxRow), 0)))
+		m.tryInsert(t, p, samples.Sized(9, max(min(room, api.MaxRow), 0)))
 		m.loaded(t)
 	}
 }
@@ -190,7 +190,7 @@ func TestMovedOnlyWhereNeeded(t *testing.T) {
 		}
 		before := m.begin - 4 - 4*slots - 30
 		begin := m.begin
-		m.tryInsert(t, p, sized(7, before))
+		m.tryInsert(t, p, samples.Sized(7, before))
 		if m.begin != begin-30-before || m.begin != 4+4*slots {
 			t.Fatalf("moved for %d bytes: %d", before, m.begin)
 		}
@@ -201,7 +201,7 @@ func TestMovedOnlyWhereNeeded(t *testing.T) {
 			m.tryFree(t, p, 2)
 			m.tryFree(t, p, 1)
 		}
-		m.tryInsert(t, p, sized(7, before+1))
+		m.tryInsert(t, p, samples.Sized(7, before+1))
 		if m.begin <= 4+4*slots {
 			t.Fatalf("not moved for %d bytes: %d", before+1, m.begin)
 		}
@@ -274,7 +274,7 @@ func TestNoVersion(t *testing.T) {
 	p, m := pageWith(t, 4, 5, 6)
 	m.tryFree(t, p, 1)
 	for _, slot := range []int{math.MinInt, -65536, -2, -1, 1, 3, 4, 127, 128, 65535, 65536, math.MaxInt} {
-		if v, ok := p.Get(slot); ok || !same(v, api.Tuple{}) {
+		if v, ok := p.Get(slot); ok || !samples.Same(v, api.Tuple{}) {
 			t.Errorf("Get(%d) = %+v, %v", slot, v, ok)
 		}
 		m.tryFree(t, p, slot)
@@ -295,7 +295,7 @@ func TestShortSequences(t *testing.T) {
 			case step < 3:
 				next.tryFree(t, p, step)
 			default:
-				next.tryInsert(t, p, sized(depth, []int{0, 90, 180, 200}[step-3]))
+				next.tryInsert(t, p, samples.Sized(depth, []int{0, 90, 180, 200}[step-3]))
 			}
 			try(next, depth-1)
 		}
@@ -317,9 +317,9 @@ func TestLongSequences(t *testing.T) {
 			case k < 10:
 				m.tryStamp(t, p, slot, uint64(r.Int63n(api.MaxXid+1)), anyNext(r))
 			case k < 12:
-				m.tryInsert(t, p, sized(i, max(0, min(api.MaxRow, m.room()+r.Intn(3)-1))))
+				m.tryInsert(t, p, samples.Sized(i, max(0, min(api.MaxRow, m.room()+r.Intn(3)-1))))
 			default:
-				m.tryInsert(t, p, sized(i, r.Intn([]int{3, 40, 201}[r.Intn(3)])))
+				m.tryInsert(t, p, samples.Sized(i, r.Intn([]int{3, 40, 201}[r.Intn(3)])))
 			}
 			if r.Intn(10) == 0 {
 				p = m.loaded(t)
@@ -340,7 +340,7 @@ func scattered(r *rand.Rand) *model {
 	at := 512 - r.Intn(3)*r.Intn(40)
 	var l []*placed
 	for range r.Intn(8) {
-		v := sized(len(l), r.Intn(60))
+		v := samples.Sized(len(l), r.Intn(60))
 		if at -= 30 + len(v.Data); at < 100 {
 			break
 		}
@@ -385,7 +385,7 @@ func TestLoadOfOthers(t *testing.T) {
 		}
 		m := modelOf([]byte(p))
 		m.check(t, q)
-		m.tryInsert(t, q, sized(3, 100))
+		m.tryInsert(t, q, samples.Sized(3, 100))
 	}
 }
 
@@ -521,13 +521,13 @@ func TestLoadNearPages(t *testing.T) {
 // P5.1, P5.2: calls of no page.
 func TestNoPage(t *testing.T) {
 	var p *Page
-	for _, v := range append(samples.InvalidVersions(), sized(1, 0), sized(1, 200)) {
+	for _, v := range append(samples.InvalidVersions(), samples.Sized(1, 0), samples.Sized(1, 200)) {
 		if slot, e := p.Insert(v); slot != 0 || e != api.ErrNone {
 			t.Errorf("Insert = %d, %d", slot, e)
 		}
 	}
 	for _, slot := range []int{math.MinInt, -1, 0, 1, math.MaxInt} {
-		if v, ok := p.Get(slot); ok || !same(v, api.Tuple{}) {
+		if v, ok := p.Get(slot); ok || !samples.Same(v, api.Tuple{}) {
 			t.Errorf("Get(%d) = %+v, %v", slot, v, ok)
 		}
 		if e := p.Free(slot); e != api.ErrNone {
@@ -576,7 +576,7 @@ func TestResultsAreNew(t *testing.T) {
 		v, _ := p.Get(slot)
 		w, _ := p.Get(slot)
 		samples.Fill(v.Data)
-		if want, _ := m.get(slot); !same(w, want) {
+		if want, _ := m.get(slot); !samples.Same(w, want) {
 			t.Errorf("Get(%d) shares memory", slot)
 		}
 		m.check(t, p)
@@ -591,7 +591,7 @@ func TestResultsAreNew(t *testing.T) {
 	q := m.loaded(t)
 	before := slices.Clone(k)
 	q.Free(1)
-	q.Insert(sized(9, 30))
+	q.Insert(samples.Sized(9, 30))
 	if !bytes.Equal(k, before) {
 		t.Error("Bytes gives the page's memory")
 	}

@@ -2,6 +2,7 @@
 package samples
 
 import (
+	"bytes"
 	"math"
 	"strings"
 
@@ -59,6 +60,20 @@ func Nowhere() api.TID { return api.TID{Page: -1, Slot: -1} }
 // Version is one that has no Next.
 func Version(row uint64, data string) api.Tuple {
 	return api.Tuple{Row: row, Xmin: 3, Next: Nowhere(), Data: []byte(data)}
+}
+
+// Sized is a version that has no Next and whose Data have n bytes, others for each row.
+func Sized(row, n int) api.Tuple {
+	data := bytes.Repeat([]byte{byte(0x81 + row)}, n)
+	for i := range data {
+		data[i] += byte(i % 5)
+	}
+	return Version(uint64(row)+1, string(data))
+}
+
+// Same compares versions.
+func Same(a, b api.Tuple) bool {
+	return a.Row == b.Row && a.Xmin == b.Xmin && a.Xmax == b.Xmax && a.Next == b.Next && bytes.Equal(a.Data, b.Data)
 }
 
 // Nexts lists what may be the Next of a version.
